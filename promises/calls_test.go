@@ -1,0 +1,121 @@
+package promises
+
+import (
+	"math/rand"
+	"strings"
+
+	"pawl/api"
+	"pawl/pawl"
+)
+
+// answer has room for what any call answers.
+type answer struct {
+	text, more string
+	number     int
+	view       api.View
+	e          api.Errno
+}
+
+// inputs has what any call may be asked.
+type inputs struct {
+	texts   [3]string
+	numbers [2]int
+	config  api.Config
+}
+
+var calls = []struct {
+	name string
+	ask  func(in inputs) answer
+}{
+	{"Mix", func(in inputs) answer {
+		text, e := pawl.Mix(in.texts[0], in.texts[1])
+		return answer{text: text, e: e}
+	}},
+	{"Public", func(in inputs) answer {
+		number, e := pawl.Public(in.numbers[0])
+		return answer{number: number, e: e}
+	}},
+	{"Shared", func(in inputs) answer {
+		number, e := pawl.Shared(in.numbers[0], in.numbers[1])
+		return answer{number: number, e: e}
+	}},
+	{"Seal", func(in inputs) answer {
+		text, e := pawl.Seal(in.texts[0], in.texts[1], in.texts[2])
+		return answer{text: text, e: e}
+	}},
+	{"Unseal", func(in inputs) answer {
+		text, e := pawl.Unseal(in.texts[0], in.texts[1], in.texts[2])
+		return answer{text: text, e: e}
+	}},
+	{"Apply", func(in inputs) answer {
+		text, e := pawl.Apply(in.texts[0], in.texts[1])
+		return answer{text: text, e: e}
+	}},
+	{"Crash", func(in inputs) answer {
+		text, e := pawl.Crash(in.texts[0], in.texts[1], in.numbers[0], in.texts[2])
+		return answer{text: text, e: e}
+	}},
+	{"Need", func(in inputs) answer {
+		number, e := pawl.Need(in.numbers[0])
+		return answer{number: number, e: e}
+	}},
+	{"Create", func(in inputs) answer {
+		text, e := pawl.Create(in.texts[0], in.config, in.texts[1], in.numbers[0])
+		return answer{text: text, e: e}
+	}},
+	{"Look", func(in inputs) answer {
+		view, e := pawl.Look(in.texts[0])
+		return answer{view: view, e: e}
+	}},
+	{"Recover", func(in inputs) answer {
+		text, e := pawl.Recover(in.texts[0])
+		return answer{text: text, e: e}
+	}},
+	{"Send", func(in inputs) answer {
+		text, more, e := pawl.Send(in.texts[0], in.texts[1])
+		return answer{text: text, more: more, e: e}
+	}},
+	{"Receive", func(in inputs) answer {
+		text, more, e := pawl.Receive(in.texts[0], in.texts[1], in.numbers[0])
+		return answer{text: text, more: more, e: e}
+	}},
+}
+
+// edgeLengths lie at and beside the bounds of all that the calls take.
+var edgeLengths = []int{0, 1, 6, 7, 8, 9, 14, 15, 31, 32, 33, 40, 41, 47, 48, 49, 55, 56, 64, 99, 100, 101, 160, 199, 200, 201, 224, 255, 256, 257, 1248, 1280, 1281, 1312, 3300, 3301}
+
+var edgeNumbers = append(append(append([]int{-3, 6, 13, 30, 31, 49, 50, 51, 100, 101}, secretNumbers...), publicNumbers...), neitherNumbers...)
+
+func wildText(from *rand.Rand) string {
+	length := edgeLengths[from.Intn(len(edgeLengths))]
+	switch from.Intn(4) {
+	case 0:
+		return strings.Repeat("\x00", length)
+	case 1:
+		return strings.Repeat("\xff", length)
+	case 2:
+		return plain + strings.Repeat("\x01", length)
+	}
+	return someText(length)
+}
+
+func wildNumber(from *rand.Rand) int { return edgeNumbers[from.Intn(len(edgeNumbers))] }
+
+// wildInputs are right ones often enough for a call to come past its first errors.
+func wildInputs(from *rand.Rand) inputs {
+	var in inputs
+	for i := range in.texts {
+		in.texts[i] = wildText(from)
+	}
+	if from.Intn(2) == 0 {
+		in.texts[0] = someKeys[from.Intn(len(someKeys))]
+	}
+	if from.Intn(2) == 0 {
+		in.texts[1] = someHeads[from.Intn(len(someHeads))]
+	}
+	for i := range in.numbers {
+		in.numbers[i] = wildNumber(from)
+	}
+	in.config = api.Config{Role: wildNumber(from), Skip: wildNumber(from), Cap: wildNumber(from), Peer: wildNumber(from)}
+	return in
+}

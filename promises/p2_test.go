@@ -1,0 +1,45 @@
+package promises
+
+import (
+	"math/rand"
+	"testing"
+
+	"pawl/pawl"
+)
+
+// Each question is asked once by itself, then again and again among all the others.
+func TestP2TheSameInAnyOrder(t *testing.T) {
+	from := rand.New(rand.NewSource(2))
+	asked := make([]inputs, 40)
+	for i := range asked {
+		asked[i] = wildInputs(from)
+	}
+	first := make([][]answer, len(asked))
+	for i, in := range asked {
+		for _, c := range calls {
+			first[i] = append(first[i], c.ask(in))
+		}
+	}
+	for range 20000 {
+		i, j := from.Intn(len(asked)), from.Intn(len(calls))
+		if got := calls[j].ask(asked[i]); got != first[i][j] {
+			t.Fatalf("P2: %s answers %+v, and before that %+v", calls[j].name, got, first[i][j])
+		}
+	}
+}
+
+// What was sealed last under a key opens no better than what was sealed before, and is sealed alike again.
+func TestP2SealingForgets(t *testing.T) {
+	one, e := pawl.Seal(plain, head, "one")
+	wantText(t, "P2: Seal", one, e, modelSeal(plain, head, "one"), 0)
+	for range 3 {
+		two, e := pawl.Seal(plain, head, "two")
+		wantText(t, "P2: Seal of another text", two, e, modelSeal(plain, head, "two"), 0)
+		again, e := pawl.Seal(plain, head, "one")
+		wantText(t, "P2: Seal once more", again, e, one, 0)
+		text, e := pawl.Unseal(plain, head, two)
+		wantText(t, "P2: Unseal", text, e, "two", 0)
+		text, e = pawl.Unseal(plain, head, one)
+		wantText(t, "P2: Unseal of what was sealed before", text, e, "one", 0)
+	}
+}
