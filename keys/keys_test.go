@@ -49,3 +49,10 @@ func TestUnsealUndoesSeal(t *testing.T) {
 		}
 	}
 }
+
+func TestTurn(t *testing.T) {
+	chain, root := Turn("12345678", 117649)
+	if chain != Mix("12345678", "c\x00\x01\xcb\x91") || root != Mix("12345678", "r\x00\x01\xcb\x91") {
+		t.Errorf("Turn = %x, %x", chain, root)
+	}
+}

@@ -30,3 +30,9 @@ func stir(a uint32, b uint32) (uint32, uint32) {
 	}
 	return a, b
 }
+
+// Turn makes of a root, and of what two numbers share, the key that a chain begins with and the root that follows.
+func Turn(root string, shared int) (string, string) {
+	bytes := quad.Text(uint32(shared))
+	return Mix(root, "c"+bytes), Mix(root, "r"+bytes)
+}

@@ -3,8 +3,13 @@ package pawl
 
 import (
 	"pawl/api"
+	"pawl/boxes"
+	"pawl/disks"
 	"pawl/keys"
 	"pawl/numbers"
+	"pawl/plans"
+	"pawl/store"
+	"pawl/texts"
 )
 
 // Mix makes a key of a key and a text (P3).
@@ -67,24 +72,129 @@ func Unseal(key string, head string, sealed string) (string, api.Errno) {
 }
 
 // Apply carries a plan out (P6).
-func Apply(disk string, plan string) (string, api.Errno) { return "", api.OK }
+func Apply(disk string, plan string) (string, api.Errno) {
+	records, e := readPlan(disk, plan)
+	if e != api.OK {
+		return "", e
+	}
+	return plans.CarryOut(disk, records), api.OK
+}
 
 // Crash carries a plan out till the power fails (P7).
-func Crash(disk string, plan string, n int, keep string) (string, api.Errno) { return "", api.OK }
+func Crash(disk string, plan string, n int, keep string) (string, api.Errno) {
+	records, e := readPlan(disk, plan)
+	if e != api.OK {
+		return "", e
+	}
+	if n < 0 || n > len(records) {
+		return "", api.ErrNumber
+	}
+	if len(keep) > api.MaxPlan {
+		return "", api.ErrLong
+	}
+	return plans.Fail(disk, records, n, keep), api.OK
+}
+
+func readPlan(disk string, plan string) ([]plans.Record, api.Errno) {
+	if !disks.IsDisk(disk) {
+		return nil, api.ErrDisk
+	}
+	records, right := plans.Read(plan, disks.Sectors(disk))
+	if !right {
+		return nil, api.ErrPlan
+	}
+	return records, api.OK
+}
 
 // Need tells how many sectors a box needs (P8).
-func Need(cap int) (int, api.Errno) { return 0, api.OK }
+func Need(cap int) (int, api.Errno) {
+	if !isWithin(cap, api.MaxCap) {
+		return 0, api.ErrNumber
+	}
+	return boxes.Need(cap), api.OK
+}
 
 // Create makes a box on a blank disk: a plan (P8).
 func Create(disk string, c api.Config, secret string, draw int) (string, api.Errno) {
-	return "", api.OK
+	if !disks.IsDisk(disk) {
+		return "", api.ErrDisk
+	}
+	if !isConfig(c) || !numbers.IsSecret(draw) {
+		return "", api.ErrNumber
+	}
+	if len(secret) != api.KeySize {
+		return "", api.ErrKey
+	}
+	if disks.Sectors(disk) < boxes.Need(c.Cap) {
+		return "", api.ErrSmall
+	}
+	if !texts.IsNoughts(disk) {
+		return "", api.ErrUsed
+	}
+	return store.Create(disk, boxes.New(c, secret, draw)), api.OK
 }
 
+func isConfig(c api.Config) bool {
+	if !isWithin(c.Role, 1) || !isWithin(c.Skip, api.MaxSkip) || !isWithin(c.Cap, api.MaxCap) {
+		return false
+	}
+	if c.Role == 1 {
+		return c.Peer == 0
+	}
+	return numbers.IsPublic(c.Peer)
+}
+
+func isWithin(n int, most int) bool { return n >= 0 && n <= most }
+
 // Look tells what a box is like (P9).
-func Look(disk string) (api.View, api.Errno) { return api.View{}, api.OK }
+func Look(disk string) (api.View, api.Errno) {
+	b, e := openBox(disk)
+	if e != api.OK {
+		return api.View{}, e
+	}
+	return api.View{
+		Role: b.Role, Step: b.Step, Sent: b.Sent, Got: b.Got, Prev: b.Prev, Skip: b.Skip, Cap: b.Cap,
+		Public: numbers.Public(b.Secret), Peer: b.Peer, Kept: keptLetters(b.Kept),
+	}, api.OK
+}
+
+// openBox tells the box of a good disk; of another the disk's errors.
+func openBox(disk string) (boxes.Box, api.Errno) {
+	if !disks.IsDisk(disk) {
+		return boxes.Box{}, api.ErrDisk
+	}
+	state := store.Find(disk)
+	switch state.Sort {
+	case store.Good:
+		return state.Box, api.OK
+	case store.Blank:
+		return boxes.Box{}, api.ErrBlank
+	case store.Torn:
+		return boxes.Box{}, api.ErrTorn
+	}
+	return boxes.Box{}, api.ErrStore
+}
+
+// keptLetters tells which letters the kept keys are for, without the keys.
+func keptLetters(kept []boxes.Kept) string {
+	letters := []byte{}
+	for i := 0; i < len(kept); i++ {
+		letters = append(letters, byte(kept[i].Step), byte(kept[i].Count))
+	}
+	return string(letters)
+}
 
 // Recover repairs a disk behind a failure: a plan (P10).
-func Recover(disk string) (string, api.Errno) { return "", api.OK }
+func Recover(disk string) (string, api.Errno) {
+	if !disks.IsDisk(disk) {
+		return "", api.ErrDisk
+	}
+	state := store.Find(disk)
+	if state.Sort == store.Bad {
+		return "", api.ErrStore
+	}
+	return store.Recover(disk, state), api.OK
+}
 
 // Send writes a letter: the letter, a plan (P11).
 func Send(disk string, text string) (string, string, api.Errno) { return "", "", api.OK }

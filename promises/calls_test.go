@@ -101,21 +101,57 @@ func wildText(from *rand.Rand) string {
 
 func wildNumber(from *rand.Rand) int { return edgeNumbers[from.Intn(len(edgeNumbers))] }
 
+// wildConfig is a right one as often as not.
+func wildConfig(from *rand.Rand) api.Config {
+	if from.Intn(2) == 0 {
+		return api.Config{Role: wildNumber(from), Skip: wildNumber(from), Cap: wildNumber(from), Peer: wildNumber(from)}
+	}
+	role := from.Intn(2)
+	return api.Config{Role: role, Skip: from.Intn(13), Cap: from.Intn(31), Peer: (1 - role) * (1 + from.Intn(2147483646))}
+}
+
+// wildDisk is one of any sort, whole or with a byte turned.
+func wildDisk(from *rand.Rand) string {
+	disks := someDisks()
+	disk := disks[from.Intn(len(disks))]
+	if from.Intn(2) == 0 {
+		return disk
+	}
+	return poke(disk, from.Intn(len(disk)), string([]byte{byte(from.Intn(256))}))
+}
+
+// wildPlan is one for most disks, whole or cut off.
+func wildPlan(from *rand.Rand) string {
+	plan := somePlan(from, from.Intn(103), 1+from.Intn(41))
+	if from.Intn(2) == 0 {
+		return plan
+	}
+	return plan[:from.Intn(len(plan)+1)]
+}
+
 // wildInputs are right ones often enough for a call to come past its first errors.
 func wildInputs(from *rand.Rand) inputs {
 	var in inputs
 	for i := range in.texts {
 		in.texts[i] = wildText(from)
 	}
-	if from.Intn(2) == 0 {
+	switch from.Intn(4) {
+	case 0:
 		in.texts[0] = someKeys[from.Intn(len(someKeys))]
+	case 1, 2:
+		in.texts[0] = wildDisk(from)
 	}
-	if from.Intn(2) == 0 {
+	switch from.Intn(4) {
+	case 0:
 		in.texts[1] = someHeads[from.Intn(len(someHeads))]
+	case 1:
+		in.texts[1] = someKeys[from.Intn(len(someKeys))]
+	case 2:
+		in.texts[1] = wildPlan(from)
 	}
 	for i := range in.numbers {
 		in.numbers[i] = wildNumber(from)
 	}
-	in.config = api.Config{Role: wildNumber(from), Skip: wildNumber(from), Cap: wildNumber(from), Peer: wildNumber(from)}
+	in.config = wildConfig(from)
 	return in
 }

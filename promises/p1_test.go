@@ -61,6 +61,47 @@ func wantLong(t *testing.T, huge string) {
 	wantText(t, "P1: Unseal of a long key, head and text", text, e, "", api.ErrKey)
 }
 
+// The lengths of huge and of huge[1:] differ in whether they are whole sectors.
+func wantLongDisk(t *testing.T, huge string) {
+	t.Helper()
+	for _, disk := range []string{huge, huge[1:]} {
+		text, e := pawl.Apply(disk, huge)
+		wantText(t, "P1: Apply on a long disk", text, e, "", api.ErrDisk)
+		text, e = pawl.Crash(disk, huge, -1, huge)
+		wantText(t, "P1: Crash on a long disk", text, e, "", api.ErrDisk)
+		text, e = pawl.Create(disk, api.Config{Role: 2}, huge, 0)
+		wantText(t, "P1: Create on a long disk", text, e, "", api.ErrDisk)
+		text, e = pawl.Recover(disk)
+		wantText(t, "P1: Recover of a long disk", text, e, "", api.ErrDisk)
+		wantSort(t, "P1: Look at a long disk", disk, api.ErrDisk)
+	}
+	small := zeros(160)
+	text, e := pawl.Apply(small, huge)
+	wantText(t, "P1: Apply of a long plan", text, e, "", api.ErrPlan)
+	text, e = pawl.Crash(small, huge, 0, huge)
+	wantText(t, "P1: Crash in a long plan", text, e, "", api.ErrPlan)
+	text, e = pawl.Crash(small, barrier, 1, huge)
+	wantText(t, "P1: Crash with a long keep", text, e, "", api.ErrLong)
+	text, e = pawl.Create(small, api.Config{Role: 1}, huge, 1)
+	wantText(t, "P1: Create with a long secret", text, e, "", api.ErrKey)
+}
+
+// Of what are barriers or right writes throughout, only the length tells that it is no plan.
+func TestP1LongPlansByTheirLength(t *testing.T) {
+	late := time.Now().Add(10 * time.Second)
+	for _, huge := range []string{strings.Repeat(barrier, 1<<26), strings.Repeat(zeros(33), 1<<21)} {
+		for round := range 5000 {
+			if time.Now().After(late) {
+				t.Fatalf("P1: only %d rounds with long plans in ten seconds", round)
+			}
+			wantLongDisk(t, huge)
+			if t.Failed() {
+				return
+			}
+		}
+	}
+}
+
 func TestP1TheFirstErrorNamed(t *testing.T) {
 	long, short := strings.Repeat("x", 201), "1234567"
 	text, e := pawl.Mix(short, long)
@@ -83,4 +124,21 @@ func TestP1TheFirstErrorNamed(t *testing.T) {
 	wantText(t, "P1: Unseal, ErrFrame and ErrTag", text, e, "", api.ErrFrame)
 	text, e = pawl.Unseal(plain, head, long)
 	wantText(t, "P1: Unseal, ErrLong and ErrTag", text, e, "", api.ErrLong)
+	text, e = pawl.Apply(zeros(33), "x")
+	wantText(t, "P1: Apply, ErrDisk and ErrPlan", text, e, "", api.ErrDisk)
+	text, e = pawl.Crash(zeros(33), "x", -1, long)
+	wantText(t, "P1: Crash, ErrDisk and all others", text, e, "", api.ErrDisk)
+	text, e = pawl.Crash(zeros(32), "x", -1, long)
+	wantText(t, "P1: Crash, ErrPlan, ErrNumber and ErrLong", text, e, "", api.ErrPlan)
+	text, e = pawl.Crash(zeros(32), "", 1, long)
+	wantText(t, "P1: Crash, ErrNumber and ErrLong", text, e, "", api.ErrNumber)
+	wrong, right := api.Config{Role: 2}, api.Config{Role: 1}
+	text, e = pawl.Create(zeros(33), wrong, short, 0)
+	wantText(t, "P1: Create, ErrDisk, ErrNumber and ErrKey", text, e, "", api.ErrDisk)
+	text, e = pawl.Create(full("x"), wrong, short, 1)
+	wantText(t, "P1: Create, ErrNumber, ErrKey, ErrSmall and ErrUsed", text, e, "", api.ErrNumber)
+	text, e = pawl.Create(full("x"), right, short, 1)
+	wantText(t, "P1: Create, ErrKey, ErrSmall and ErrUsed", text, e, "", api.ErrKey)
+	text, e = pawl.Create(full("x"), right, plain, 1)
+	wantText(t, "P1: Create, ErrSmall and ErrUsed", text, e, "", api.ErrSmall)
 }

@@ -4,6 +4,7 @@ import (
 	"math/rand"
 	"testing"
 
+	"pawl/api"
 	"pawl/pawl"
 )
 
@@ -41,5 +42,21 @@ func TestP2SealingForgets(t *testing.T) {
 		wantText(t, "P2: Unseal", text, e, "two", 0)
 		text, e = pawl.Unseal(plain, head, one)
 		wantText(t, "P2: Unseal of what was sealed before", text, e, "one", 0)
+	}
+}
+
+// A disk that was looked at, recovered or created on is not remembered when another one comes.
+func TestP2DisksAreNotRemembered(t *testing.T) {
+	for range 3 {
+		wantSort(t, "P2: Look at a torn disk", poke(second(), 159, "\x01"), api.ErrTorn)
+		wantView(t, "P2: Look at a good disk", second(), api.View{Role: 1, Skip: 1, Public: 49}, api.OK)
+		plan, e := pawl.Recover(second())
+		there, f := pawl.Apply(second(), plan)
+		if e != api.OK || f != api.OK || there != second() {
+			t.Errorf("P2: Recover of a good disk, carried out: %x, %d, %d", there, e, f)
+		}
+		wantCreated(t, 5, api.Config{Role: 0, Peer: 7}, plain, 3)
+		wantCreated(t, 5, api.Config{Role: 1}, ones, 4)
+		wantView(t, "P2: Look at another good disk", third().disk(1, 0), third().view(), api.OK)
 	}
 }
