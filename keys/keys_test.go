@@ -56,3 +56,10 @@ func TestTurn(t *testing.T) {
 		t.Errorf("Turn = %x, %x", chain, root)
 	}
 }
+
+func TestLink(t *testing.T) {
+	key, next := Link("12345678")
+	if key != Mix("12345678", "m") || next != Mix("12345678", "n") {
+		t.Errorf("Link = %x, %x", key, next)
+	}
+}

@@ -36,3 +36,8 @@ func Turn(root string, shared int) (string, string) {
 	bytes := quad.Text(uint32(shared))
 	return Mix(root, "c"+bytes), Mix(root, "r"+bytes)
 }
+
+// Link tells the next key of a chain, and the chain behind it.
+func Link(chain string) (string, string) {
+	return Mix(chain, "m"), Mix(chain, "n")
+}

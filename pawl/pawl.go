@@ -6,9 +6,11 @@ import (
 	"pawl/boxes"
 	"pawl/disks"
 	"pawl/keys"
+	"pawl/letters"
 	"pawl/numbers"
 	"pawl/plans"
 	"pawl/store"
+	"pawl/talk"
 	"pawl/texts"
 )
 
@@ -148,31 +150,32 @@ func isWithin(n int, most int) bool { return n >= 0 && n <= most }
 
 // Look tells what a box is like (P9).
 func Look(disk string) (api.View, api.Errno) {
-	b, e := openBox(disk)
+	state, e := openDisk(disk)
 	if e != api.OK {
 		return api.View{}, e
 	}
+	b := state.Box
 	return api.View{
 		Role: b.Role, Step: b.Step, Sent: b.Sent, Got: b.Got, Prev: b.Prev, Skip: b.Skip, Cap: b.Cap,
 		Public: numbers.Public(b.Secret), Peer: b.Peer, Kept: keptLetters(b.Kept),
 	}, api.OK
 }
 
-// openBox tells the box of a good disk; of another the disk's errors.
-func openBox(disk string) (boxes.Box, api.Errno) {
+// openDisk tells what is on a good disk; of another the disk's errors.
+func openDisk(disk string) (store.State, api.Errno) {
 	if !disks.IsDisk(disk) {
-		return boxes.Box{}, api.ErrDisk
+		return store.State{}, api.ErrDisk
 	}
 	state := store.Find(disk)
 	switch state.Sort {
 	case store.Good:
-		return state.Box, api.OK
+		return state, api.OK
 	case store.Blank:
-		return boxes.Box{}, api.ErrBlank
+		return store.State{}, api.ErrBlank
 	case store.Torn:
-		return boxes.Box{}, api.ErrTorn
+		return store.State{}, api.ErrTorn
 	}
-	return boxes.Box{}, api.ErrStore
+	return store.State{}, api.ErrStore
 }
 
 // keptLetters tells which letters the kept keys are for, without the keys.
@@ -197,9 +200,40 @@ func Recover(disk string) (string, api.Errno) {
 }
 
 // Send writes a letter: the letter, a plan (P11).
-func Send(disk string, text string) (string, string, api.Errno) { return "", "", api.OK }
+func Send(disk string, text string) (string, string, api.Errno) {
+	state, e := openDisk(disk)
+	if e != api.OK {
+		return "", "", e
+	}
+	if len(text) > api.MaxText {
+		return "", "", api.ErrLong
+	}
+	if state.Box.Step == 0 {
+		return "", "", api.ErrMute
+	}
+	if state.Box.Sent >= api.MaxCount || state.Box.Step >= api.MaxStep {
+		return "", "", api.ErrSpent
+	}
+	letter, b := talk.Send(state.Box, text)
+	return letter, store.Replace(disk, state, b), api.OK
+}
 
 // Receive opens a letter: its text, a plan (P12, P13).
 func Receive(disk string, letter string, draw int) (string, string, api.Errno) {
-	return "", "", api.OK
+	state, e := openDisk(disk)
+	if e != api.OK {
+		return "", "", e
+	}
+	if !numbers.IsSecret(draw) {
+		return "", "", api.ErrNumber
+	}
+	l, right := letters.Read(letter)
+	if !right {
+		return "", "", api.ErrFrame
+	}
+	text, b, e := talk.Receive(state.Box, l, draw)
+	if e != api.OK {
+		return "", "", e
+	}
+	return text, store.Replace(disk, state, b), api.OK
 }

@@ -129,6 +129,16 @@ func wildPlan(from *rand.Rand) string {
 	return plan[:from.Intn(len(plan)+1)]
 }
 
+// wildLetter is one that fourth can open, whole or with a byte turned.
+func wildLetter(from *rand.Rand) string {
+	letters := someLetters()
+	letter := letters[from.Intn(len(letters))]
+	if from.Intn(2) == 0 {
+		return letter
+	}
+	return poke(letter, from.Intn(len(letter)), string([]byte{byte(from.Intn(256))}))
+}
+
 // wildInputs are right ones often enough for a call to come past its first errors.
 func wildInputs(from *rand.Rand) inputs {
 	var in inputs
@@ -141,13 +151,15 @@ func wildInputs(from *rand.Rand) inputs {
 	case 1, 2:
 		in.texts[0] = wildDisk(from)
 	}
-	switch from.Intn(4) {
+	switch from.Intn(5) {
 	case 0:
 		in.texts[1] = someHeads[from.Intn(len(someHeads))]
 	case 1:
 		in.texts[1] = someKeys[from.Intn(len(someKeys))]
 	case 2:
 		in.texts[1] = wildPlan(from)
+	case 3:
+		in.texts[0], in.texts[1] = fourth().disk(from.Intn(2), from.Intn(3)), wildLetter(from)
 	}
 	for i := range in.numbers {
 		in.numbers[i] = wildNumber(from)

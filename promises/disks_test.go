@@ -215,7 +215,7 @@ func someDisks() []string {
 	first := box{role: 0, step: 1, sent: 50, skip: 12, cap: 3, root: plain, out: ones, in: noughts, secret: 12, peer: 49}
 	turned := box{role: 1, step: 2, got: 2, skip: 2, cap: 2, root: plain, out: ones, in: ones, secret: 12, peer: 49, kept: []kept{{1, 0, plain}, {1, 1, ones}}}
 	disks := []string{zeros(32), zeros(64), zeros(160), zeros(1280)}
-	for _, b := range []box{first, turned, third(), fullBox()} {
+	for _, b := range []box{first, turned, third(), fourth(), fullBox()} {
 		for live := range 2 {
 			good := b.disk(live, live)
 			other := 32 + (1-live)*modelSide(b.cap)

@@ -28,20 +28,20 @@ func TestP1NothingBesideAnError(t *testing.T) {
 
 // A call that reads such texts through does not come to the end of these rounds in time.
 func TestP1LongTextsByTheirLength(t *testing.T) {
-	huge := strings.Repeat("x", 1<<26)
+	good, huge := fourth().disk(0, 0), strings.Repeat("\x05", 1<<26)
 	late := time.Now().Add(10 * time.Second)
 	for round := range 5000 {
 		if time.Now().After(late) {
 			t.Fatalf("P1: only %d rounds with long texts in ten seconds", round)
 		}
-		wantLong(t, huge)
+		wantLong(t, good, huge)
 		if t.Failed() {
 			return
 		}
 	}
 }
 
-func wantLong(t *testing.T, huge string) {
+func wantLong(t *testing.T, good string, huge string) {
 	t.Helper()
 	text, e := pawl.Mix(plain, huge)
 	wantText(t, "P1: Mix of a long text", text, e, "", api.ErrLong)
@@ -59,6 +59,10 @@ func wantLong(t *testing.T, huge string) {
 	wantText(t, "P1: Unseal of a long head and text", text, e, "", api.ErrFrame)
 	text, e = pawl.Unseal(huge, huge, huge)
 	wantText(t, "P1: Unseal of a long key, head and text", text, e, "", api.ErrKey)
+	letter, plan, e := pawl.Send(good, huge)
+	wantText(t, "P1: Send of a long text", letter+plan, e, "", api.ErrLong)
+	wantRefused(t, "P1: Receive of a long letter", good, huge, 1, api.ErrFrame)
+	wantRefused(t, "P1: Receive of a long letter, with a wrong draw", good, huge, 0, api.ErrNumber)
 }
 
 // The lengths of huge and of huge[1:] differ in whether they are whole sectors.
@@ -74,6 +78,9 @@ func wantLongDisk(t *testing.T, huge string) {
 		text, e = pawl.Recover(disk)
 		wantText(t, "P1: Recover of a long disk", text, e, "", api.ErrDisk)
 		wantSort(t, "P1: Look at a long disk", disk, api.ErrDisk)
+		text, more, e := pawl.Send(disk, huge)
+		wantText(t, "P1: Send on a long disk", text+more, e, "", api.ErrDisk)
+		wantRefused(t, "P1: Receive on a long disk", disk, huge, 0, api.ErrDisk)
 	}
 	small := zeros(160)
 	text, e := pawl.Apply(small, huge)
@@ -141,4 +148,17 @@ func TestP1TheFirstErrorNamed(t *testing.T) {
 	wantText(t, "P1: Create, ErrKey, ErrSmall and ErrUsed", text, e, "", api.ErrKey)
 	text, e = pawl.Create(full("x"), right, plain, 1)
 	wantText(t, "P1: Create, ErrSmall and ErrUsed", text, e, "", api.ErrSmall)
+	mute := second()
+	for _, c := range []struct {
+		what, disk string
+		want       api.Errno
+	}{{"ErrDisk and ErrLong", zeros(33), api.ErrDisk}, {"ErrBlank and ErrLong", zeros(160), api.ErrBlank}, {"ErrTorn and ErrLong", mute + full("x"), api.ErrTorn}, {"ErrStore and ErrLong", full("x"), api.ErrStore}, {"ErrLong and ErrMute", mute, api.ErrLong}, {"ErrLong and ErrSpent", fullBox().disk(0, 0), api.ErrLong}} {
+		letter, plan, e := pawl.Send(c.disk, long)
+		wantText(t, "P1: Send, "+c.what, letter+plan, e, "", c.want)
+		if c.want != api.ErrLong {
+			wantRefused(t, "P1: Receive, the disk's errors and all others", c.disk, long, 0, c.want)
+		} else {
+			wantRefused(t, "P1: Receive, ErrNumber and ErrFrame", c.disk, long, 0, api.ErrNumber)
+		}
+	}
 }

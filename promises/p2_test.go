@@ -60,3 +60,22 @@ func TestP2DisksAreNotRemembered(t *testing.T) {
 		wantView(t, "P2: Look at another good disk", third().disk(1, 0), third().view(), api.OK)
 	}
 }
+
+// A letter that was written or taken is not remembered either: as long as the disk is the same, the answer is.
+func TestP2LettersAreNotRemembered(t *testing.T) {
+	b := fourth()
+	disk := b.disk(0, 0)
+	letter, plan, e := pawl.Send(disk, "one")
+	if e != api.OK {
+		t.Fatalf("P2: Send: %d", e)
+	}
+	for range 3 {
+		place{}.wantSent(t, "P2: Send of another text", b, "two")
+		for _, l := range someLetters() {
+			place{}.wantAnswer(t, "P2: Receive of the same letters again", b, l, 7, api.OK)
+		}
+		place{live: 1}.wantSent(t, "P2: Send of another box", third(), "three")
+		l, p, e := pawl.Send(disk, "one")
+		wantText(t, "P2: Send once more", l+p, e, letter+plan, api.OK)
+	}
+}

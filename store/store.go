@@ -18,10 +18,11 @@ const (
 	Good  Sort = 3
 )
 
-// State is what is found on a disk. Repaired is its repair; of a bad disk there is none. The box is that of a good disk.
+// State is what is found on a disk. Repaired is its repair; of a bad disk there is none. The live side and the box are those of a good disk.
 type State struct {
 	Sort     Sort
 	Repaired string
+	Live     int
 	Box      boxes.Box
 }
 
@@ -51,7 +52,7 @@ func Find(disk string) State {
 	if disk != repaired {
 		return State{Sort: Torn, Repaired: repaired}
 	}
-	return State{Sort: Good, Repaired: repaired, Box: box}
+	return State{Sort: Good, Repaired: repaired, Live: live, Box: box}
 }
 
 // readBox tells the box of a disk, and whether there are a right sector 0 and a right live side.
