@@ -227,19 +227,24 @@ func someDisks() []string {
 	return append(disks, second(), poke(second(), 159, "\x01"), poke(second(), 0, "\x00"), zeros(159)+"\x01", zeros(1279)+"\x01", zeros(32)+full("x"), full("x"), full("PAWL")[:32], someDisk(5), someDisk(40))
 }
 
+func everyKeep(loose int) []string {
+	var l []string
+	for bits := range 1 << loose {
+		keep := make([]byte, loose)
+		for i := range keep {
+			keep[i] = '0' + byte(bits>>i&1)
+		}
+		l = append(l, string(keep))
+	}
+	return l
+}
+
 // keeps are all ways of keeping so many loose writes, if these are few; else many ways.
 func keeps(from *rand.Rand, loose int) []string {
-	var l []string
 	if loose <= 9 {
-		for bits := range 1 << loose {
-			keep := make([]byte, loose)
-			for i := range keep {
-				keep[i] = '0' + byte(bits>>i&1)
-			}
-			l = append(l, string(keep))
-		}
-		return l
+		return everyKeep(loose)
 	}
+	var l []string
 	none, all := strings.Repeat("0", loose), strings.Repeat("1", loose)
 	l = append(l, none, all)
 	for i := range loose {

@@ -126,15 +126,15 @@ func letterFor(b box, step, count, prev, public int, text string) string {
 	return head + modelSeal(key, head, text)
 }
 
-// wantMove fails if a plan does not lead from one good disk to another, or if it leaves a third one when the power fails with nothing or all kept.
-func wantMove(t *testing.T, what string, disk string, plan string, end string) {
+// wantMove fails if a plan does not lead from one good disk to another, or if it leaves a third one when the power fails with any of these kept.
+func wantMove(t *testing.T, what string, disk string, plan string, end string, keeps []string) {
 	t.Helper()
 	records, right := modelRecords(plan, len(disk)/32)
 	if !right {
 		t.Fatalf("%s: no plan for a disk of %d sectors: %x", what, len(disk)/32, plan)
 	}
 	for n := range len(records) + 1 {
-		for _, keep := range []string{"", full("1")} {
+		for _, keep := range keeps {
 			there := modelCrash(disk, records, n, keep)
 			if _, repair := modelSort(there); repair != disk && repair != end {
 				t.Fatalf("%s: behind %d records of %x there may be %x, whose repair is %x", what, n, plan, there, repair)
@@ -158,7 +158,7 @@ func (p place) wantPlan(t *testing.T, what string, b box, plan string, after box
 	if p.sure {
 		wantSure(t, what, disk, plan, end, disk, end)
 	} else {
-		wantMove(t, what, disk, plan, end)
+		wantMove(t, what, disk, plan, end, []string{"", full("1")})
 	}
 }
 

@@ -132,6 +132,17 @@ func TestP11EveryCapIsSafe(t *testing.T) {
 	}
 }
 
+// The greatest boxes have eleven sectors a side: no more writes are loose at a time, if sides and sector 0 are kept apart.
+func TestP11EveryWayOfKeeping(t *testing.T) {
+	for live := range 2 {
+		b := capped(30, 30)
+		disk := b.disk(live, 1)
+		_, plan, _ := pawl.Send(disk, "text")
+		_, after, _ := modelSend(b, "text")
+		wantMove(t, "P11: every way of keeping", disk, plan, after.disk(1-live, 1), everyKeep(12))
+	}
+}
+
 func TestP11SomeBoxes(t *testing.T) {
 	from := rand.New(rand.NewSource(11))
 	seen := map[api.Errno]int{}

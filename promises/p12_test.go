@@ -7,6 +7,7 @@ import (
 	"testing"
 
 	"pawl/api"
+	"pawl/pawl"
 )
 
 func TestP12Example8(t *testing.T) {
@@ -331,6 +332,17 @@ func TestP12EveryCapIsSafe(t *testing.T) {
 			b := bare(6, 9, 12, most)
 			place{live, live, true}.wantAnswer(t, fmt.Sprintf("P12: cap %d, turning", most), b, letterFor(b, 7, 12, 21, 5, "turning"), 3, api.OK)
 		}
+	}
+}
+
+func TestP12EveryWayOfKeeping(t *testing.T) {
+	for live := range 2 {
+		b := capped(30, 24)
+		b.got = 40
+		disk, letter := b.disk(live, 1), letterFor(b, 28, 46, 0, 5, "text")
+		_, plan, _ := pawl.Receive(disk, letter, 3)
+		_, after, _ := modelReceive(b, letter, 3)
+		wantMove(t, "P12: every way of keeping", disk, plan, after.disk(1-live, 1), everyKeep(12))
 	}
 }
 
